@@ -1,4 +1,4 @@
-"""The rules of the program's form (L1 to L28) that can be seen from a file's text and its tree."""
+"""A part of the rules of the program's form; not looked for are L11, L13, L21 to L24 and L28."""
 import ast
 import builtins
 import pathlib
