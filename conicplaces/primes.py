@@ -12,12 +12,10 @@ def prime_parts(number):
     left = number
     divisor = 2
     while divisor * divisor <= left:
-        often = 0
-        while left % divisor == 0:
-            left = left // divisor
-            often = often + 1
-        if often > 0:
-            parts.append((divisor, often))
+        if left % divisor == 0:
+            taken = taken_out(left, divisor)
+            parts.append((divisor, taken[0]))
+            left = taken[1]
         divisor = divisor_after(divisor)
     if left > 1:
         parts.append((left, 1))
@@ -31,6 +29,20 @@ def divisor_after(divisor):
     return divisor + 2
 
 
+# How often the prime divides the number, which is not 0, and what is left of the number, with its sign.
+def taken_out(number, prime):
+    often = 0
+    left = number
+    while left % prime == 0:
+        left = left // prime
+        often = often + 1
+    return (often, left)
+
+
+def is_prime(number):
+    return number > 1 and prime_parts(number) == [(number, 1)]
+
+
 def core_of(number):
     if number == 0:
         raise NoNumber("0 has no core")
@@ -42,3 +54,7 @@ def core_of(number):
         for turn in range(often // 2):
             root = root * prime
     return (core, root)
+
+
+def is_without_squares(number):
+    return number != 0 and core_of(number)[1] == 1

@@ -2,10 +2,7 @@ import unittest
 
 from conicplaces.errors import NoNumber
 from conicplaces.wholes import root_of, shares_of
-
-# Of 300 figures: a power of ten is prime to every number that neither 2 nor 5 divides.
-TEN = 10 ** 299
-ODD = 3 ** 628
+from trial import ODD, TEN
 
 
 def greatest_by_trial(one, other):
