@@ -1,40 +1,11 @@
-import functools
 import itertools
 import unittest
 
 from conicplaces.errors import NoNumber, NoPlace, NotPlain
 from conicplaces.places import bad_places, is_plain, pair_sign
-from trial import primes_of, squares_by
+from trial import NEAR, NOT_PLAIN, plain_by_trial, plain_triples, primes_of, rests_fit, squares_by
 
 PRIMES = (2, 3, 5, 7, 11, 13)
-# The three greatest primes below 10 ** 6.
-NEAR = (999961, 999979, 999983)
-# Each with another fault: a 0, the square of a prime in one of them, a prime in two of them.
-NOT_PLAIN = ((0, 1, 1), (1, 0, -1), (1, -1, 0), (0, 0, 0), (4, 1, 1), (1, 9, -1), (1, 1, -25), (-4, 3, 5), (12, 5, 7),
-             (2, 2, 1), (2, -1, 6), (1, 15, -10), (-3, -3, -3), (6, 5, -9), (997 ** 2, 2, 3), (2, -7 * 997, 997),
-             (10 ** 6, 3, 7), (NEAR[2], 1, -NEAR[2]), (2, 3, 499979 * 2))
-
-
-def plain_by_trial(a, b, c):
-    primes = [p for number in (a, b, c) for p in primes_of(abs(number))]
-    return 0 not in (a, b, c) and len(primes) == len(set(primes))
-
-
-@functools.cache
-def squares_by_power(prime, power):
-    rests = range(prime ** power)
-    units = {x * x % prime ** power for x in rests if x % prime != 0}
-    return units, squares_by(prime ** power)
-
-
-def rests_fit(a, b, c, prime, power):
-    """Tries all rests, of which the prime doesn't divide all three, by way of their squares."""
-    units, squares = squares_by_power(prime, power)
-    for first, second, third in ((a, b, c), (b, c, a), (c, a, b)):
-        met = {-third * z % prime ** power for z in squares}
-        if any((first * x + second * y) % prime ** power in met for x in units for y in squares):
-            return True
-    return False
 
 
 def often_in(number, prime):
@@ -49,11 +20,6 @@ def sign_by_trial(a, b, prime):
     """A fit by this power leads on to fits by all higher ones: the prime divides the slope less than half as often."""
     slope = max(often_in(2 * a, prime), often_in(2 * b, prime))
     return 1 if rests_fit(a, b, -1, prime, 2 * slope + 1) else -1
-
-
-def plain_triples(bound):
-    numbers = [n for n in range(-bound, bound + 1) if n != 0]
-    return [three for three in itertools.product(numbers, repeat=3) if plain_by_trial(*three)]
 
 
 class Trial(unittest.TestCase):
