@@ -12,20 +12,23 @@ def is_plain(a, b, c):
     return all([shares_of(one, other)[0] == 1 for one, other in ((a, b), (b, c), (c, a))])
 
 
-# Taken -c times, a xx + b yy + c zz = 0 says that -ac xx - bc yy is the square of c z; so the place is bad
-# just where the sign of -ac and -bc at it is -1.
 def bad_places(a, b, c):
     if not is_plain(a, b, c):
         raise NotPlain("a number is 0 or has a square in it, or a prime divides two of them")
+    return places_without_point(a, b, c)
+
+
+# Taken -c times, a xx + b yy + c zz = 0 says that -ac xx - bc yy is the square of c z; so there is no point at the
+# place just where the sign of -ac and -bc at it is -1. That holds where a prime divides two of the three as well.
+def places_without_point(a, b, c):
     return [place for place in places_in_question(a, b, c) if sign_at(-a * c, -b * c, place) == -1]
 
 
-# No odd prime comes twice, since none divides two of three plain numbers.
 def places_in_question(a, b, c):
     odd_primes = []
     for number in (a, b, c):
         odd_primes.extend([prime for prime, often in prime_parts(abs(number)) if prime > 2])
-    return [0, 2] + sorted(odd_primes)
+    return [0, 2] + sorted(set(odd_primes))
 
 
 def pair_sign(a, b, place):

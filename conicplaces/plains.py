@@ -1,9 +1,8 @@
 """The plain three of a sum: a table that leaves nothing of it but three squares, plain ones, and a scale."""
 
-from conicplaces.errors import Flat
 from conicplaces.primes import core_of
-from conicplaces.sums import AXES, crossing_of, lowest_point, size_of, slopes_of, turned_by, turned_over
-from conicplaces.sums import vertex_of, worth_of
+from conicplaces.sums import AXES, added, crossing_of, lowest_point, refuse_flat, size_of, slopes_of, stretched
+from conicplaces.sums import turned_by, turned_over, worth_of
 from conicplaces.wholes import root_of, shares_of
 
 TURNS = ((0, 1, 2), (1, 2, 0), (2, 0, 1))
@@ -16,8 +15,7 @@ TURNS = ((0, 1, 2), (1, 2, 0), (2, 0, 1))
 # size to 8 * 10 ** 6. A prime of the first or of the second plain number divides one of these two worths, and a prime
 # of the third divides the size or the first worth. None has a square in it, so none is above 10 ** 10.
 def plain_of(Q):
-    if size_of(Q) == 0:
-        raise Flat(vertex_of(Q))
+    refuse_flat(Q)
     corners = corners_of(Q)
     worths = [worth_of(Q, corner) for corner in corners]
     cores = cores_of(worths, size_of(Q))
@@ -48,14 +46,6 @@ def off_curve(Q, points):
     for one in points:
         tried.extend([added(one, other) for other in points])
     return [point for point in tried if worth_of(Q, point) != 0][0]
-
-
-def added(one, other):
-    return (one[0] + other[0], one[1] + other[1], one[2] + other[2])
-
-
-def stretched(P, times):
-    return (P[0] * times, P[1] * times, P[2] * times)
 
 
 # The product of the three worths is the size times a square; so the third core is told by smaller numbers than

@@ -1,6 +1,6 @@
 """Sums of the second degree, points and tables: their worth, how tables change them, and a sum's vertex."""
 
-from conicplaces.errors import NoVertex
+from conicplaces.errors import Flat, NoVertex
 from conicplaces.wholes import shares_of
 
 AXES = ((1, 0, 0), (0, 1, 0), (0, 0, 1))
@@ -52,6 +52,11 @@ def vertex_of(Q):
     return lowest_point([crossing for crossing in crossings if any(crossing)][0])
 
 
+def refuse_flat(Q):
+    if size_of(Q) == 0:
+        raise Flat(vertex_of(Q))
+
+
 # The table that turns a point to the three slopes of the sum at it.
 def slopes_of(Q):
     return ((2 * Q[0], Q[5], Q[4]), (Q[5], 2 * Q[1], Q[3]), (Q[4], Q[3], 2 * Q[2]))
@@ -59,6 +64,14 @@ def slopes_of(Q):
 
 def turned_by(table, P):
     return (row_product(table[0], P), row_product(table[1], P), row_product(table[2], P))
+
+
+def added(one, other):
+    return (one[0] + other[0], one[1] + other[1], one[2] + other[2])
+
+
+def stretched(P, times):
+    return (P[0] * times, P[1] * times, P[2] * times)
 
 
 def row_product(row, P):

@@ -3,7 +3,7 @@ import unittest
 
 from conicplaces.errors import BadPlace, NoPlace, NotPlain
 from conicplaces.fitting import fitting_rests
-from trial import NEAR, NOT_PLAIN, plain_by_trial, plain_triples, primes_of, rests_fit
+from trial import NEAR, NOT_PLAIN, fits_by_trial, plain_by_trial, plain_triples, primes_of
 
 PRIMES = (2, 3, 5, 7, 11, 13)
 # The three greatest primes below 10 ** 4.
@@ -29,15 +29,7 @@ class Fitting(unittest.TestCase):
         self.assertEqual(refused.exception.place, prime, (three, prime, k))
 
     def check(self, three, prime, powers=POWERS):
-        """By trying all rests where that can be done, and by Euler's power where an odd prime is great."""
-        a, b, c = three
-        if prime == 2:
-            fits = rests_fit(a, b, c, 2, 3)
-        elif prime < 20:
-            fits = rests_fit(a, b, c, prime, 2)
-        else:
-            others = [product for one, product in ((a, -b * c), (b, -c * a), (c, -a * b)) if one % prime == 0]
-            fits = others == [] or pow(others[0], (prime - 1) // 2, prime) == 1
+        fits = fits_by_trial(*three, prime)
         for k in powers:
             if fits:
                 self.check_fits(three, prime, k)

@@ -13,6 +13,10 @@ FUNCTIONS = {
     "sums": {"worth_of": "Q P", "changed_by": "Q table", "put_together": "one other", "measure_of": "table",
              "size_of": "Q", "lowest_point": "P", "vertex_of": "Q"},
     "plains": {"plain_of": "Q"},
+    "descent": {"pair_point": "a b"},
+    "curves": {"point_or_place": "Q", "bad_of": "Q"},
+    "smalls": {"small_point": "a b c"},
+    "pencils": {"point_by": "Q P m n", "numbers_of": "Q P other"},
 }
 
 

@@ -4,7 +4,7 @@ import unittest
 from conicplaces.errors import Flat
 from conicplaces.plains import plain_of
 from conicplaces.sums import size_of
-from trial import changed_by_hand, is_lowest, measure_by_hand, plain_by_trial, plain_triples, slopes_by_hand
+from trial import changed_by_hand, is_vertex, measure_by_hand, plain_by_trial, plain_triples
 
 
 class Plain(unittest.TestCase):
@@ -26,9 +26,7 @@ class Plain(unittest.TestCase):
     def check_flat(self, total):
         with self.assertRaises(Flat) as refused:
             plain_of(total)
-        vertex = refused.exception.vertex
-        self.assertTrue(is_lowest(vertex), (total, vertex))
-        self.assertEqual(slopes_by_hand(total, vertex), (0, 0, 0), total)
+        self.assertTrue(is_vertex(total, refused.exception.vertex), total)
 
     def check_either(self, total):
         if size_of(total) == 0:

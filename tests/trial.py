@@ -53,6 +53,20 @@ def rests_fit(a, b, c, prime, power):
     return False
 
 
+def fits_by_trial(a, b, c, prime):
+    """Whether the prime isn't bad for plain a, b, c: by all rests, or by Euler's power where an odd prime is great."""
+    if prime < 20:
+        return rests_fit(a, b, c, prime, 3 if prime == 2 else 2)
+    others = [product for one, product in ((a, -b * c), (b, -c * a), (c, -a * b)) if one % prime == 0]
+    return others == [] or pow(others[0], (prime - 1) // 2, prime) == 1
+
+
+def bad_by_trial(a, b, c):
+    primes = sorted({2, *primes_of(abs(a)), *primes_of(abs(b)), *primes_of(abs(c))})
+    bad = [prime for prime in primes if not fits_by_trial(a, b, c, prime)]
+    return [0, *bad] if (a > 0) == (b > 0) == (c > 0) else bad
+
+
 def plain_triples(bound):
     numbers = [n for n in range(-bound, bound + 1) if n != 0]
     return [three for three in itertools.product(numbers, repeat=3) if plain_by_trial(*three)]
@@ -88,8 +102,26 @@ def slopes_by_hand(total, point):
     return (2 * a * x + f * y + e * z, f * x + 2 * b * y + d * z, e * x + d * y + 2 * c * z)
 
 
+def core_by_hand(number):
+    """The number without its squares, with its sign."""
+    primes = primes_of(abs(number))
+    core = math.prod(prime for prime in set(primes) if primes.count(prime) % 2 == 1)
+    return core if number > 0 else -core
+
+
+def lowest_by_hand(point):
+    divisor = math.gcd(*point)
+    if next(number for number in point if number != 0) < 0:
+        divisor = -divisor
+    return tuple(number // divisor for number in point)
+
+
 def is_lowest(point):
     """Whether it is a point in lowest terms."""
     if type(point) is not tuple or [type(number) for number in point] != [int, int, int]:
         return False
     return math.gcd(*point) == 1 and next(number for number in point if number != 0) > 0
+
+
+def is_vertex(total, point):
+    return is_lowest(point) and slopes_by_hand(total, point) == (0, 0, 0)
