@@ -8,17 +8,21 @@ from conicplaces.sums import turned_by, worth_of
 WAYS = ((1, 2), (0, 2), (0, 1))
 
 
-# The worth of i P + j D is i j times the slopes' product with D and j j times the worth of D; so beside P, where j is
-# 0, it is 0 just for the i and j taken here. The ways lead off P, so the point made is never three noughts.
 def point_by(Q, P, m, n):
     refuse_flat(Q)
     start = point_on(Q, P)
     if m == 0 and n == 0:
         raise NoPair("0 and 0 tell no direction")
+    return lowest_point(led_to(Q, start, m, n))
+
+
+# The worth of i P + j D is i j times the slopes' product with D and j j times the worth of D; so beside P, where j is
+# 0, it is 0 just for the i and j taken here. The ways lead off P, so the point made is never three noughts.
+def led_to(Q, start, m, n):
     ways = WAYS[last_of(start)]
     direction = added(stretched(AXES[ways[0]], m), stretched(AXES[ways[1]], n))
     slope = row_product(turned_by(slopes_of(Q), start), direction)
-    return lowest_point(added(stretched(start, worth_of(Q, direction)), stretched(direction, -slope)))
+    return added(stretched(start, worth_of(Q, direction)), stretched(direction, -slope))
 
 
 # The direction is where the line through both points, or the line that touches the curve where they are one, has no

@@ -31,16 +31,19 @@ def plain_of(Q):
 # Each of the three corners lies on the lines that the slopes at the two others tell, so that no mixed term is left
 # where they are the columns of a table.
 def corners_of(Q):
-    slopes = slopes_of(Q)
     first = off_curve(Q, AXES)
-    line = turned_by(slopes, first)
-    second = lowest_point(off_curve(Q, [crossing_of(line, axis) for axis in AXES]))
-    third = lowest_point(crossing_of(line, turned_by(slopes, second)))
-    return (first, second, third)
+    return (first,) + corners_on(Q, turned_by(slopes_of(Q), first))
+
+
+# The slopes' line at the first of the two doesn't go through it, since the worth isn't 0 there; so it is another line
+# than the one handed in, and they cross in a second point.
+def corners_on(Q, line):
+    first = lowest_point(off_curve(Q, [crossing_of(line, axis) for axis in AXES]))
+    return (first, lowest_point(crossing_of(line, turned_by(slopes_of(Q), first))))
 
 
 # Were the worth 0 at all the points and at each two of them added up, it would be 0 at whatever is made of them;
-# so it isn't, neither on the whole plane nor on a line that the slopes tell, where the size isn't 0.
+# so it isn't, neither on the whole plane nor on any line, where the size isn't 0.
 def off_curve(Q, points):
     tried = list(points)
     for one in points:

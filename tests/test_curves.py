@@ -4,7 +4,8 @@ import unittest
 from conicplaces.curves import bad_of, point_or_place
 from conicplaces.errors import Flat
 from conicplaces.plains import plain_of
-from trial import bad_by_trial, changed_by_hand, is_lowest, is_vertex, plain_triples, primes_of, worth_by_hand
+from trial import bad_by_trial, changed_by_hand, fits_by_all_rests, is_lowest, is_one_signed, is_vertex, plain_triples
+from trial import primes_of, product_sum, size_by_hand, worth_by_hand
 
 FLAT = ((0, 0, 0, 0, 0, 0), (1, 0, 0, 0, 0, 0), (0, 0, -100, 0, 0, 0), (1, 1, 0, 0, 0, 0), (1, 0, -2, 0, 0, 0),
         (1, -1, 0, 0, 0, 0), (0, 0, 0, 0, 0, 1), (0, 0, 0, 7, -100, 0), (1, 1, 0, 0, 0, 2), (4, 9, 25, 30, 20, 12),
@@ -15,43 +16,6 @@ FULL = ((1, 2, 3, 4, 5, 6), (-1, 2, -3, 4, -5, 6), (7, -11, 13, -17, 19, -23), (
         (2, 2, 2, 1, 1, 1), (-50, -60, -70, 10, 20, 30), (1, 1, -1, 1, 1, 1), (100, -99, 98, -97, 96, -95),
         (-89, 83, -79, 73, 71, 67),
         (3, 3, -7, 1, -1, 1), (5, 7, 11, -2, 3, -1), (-100, -100, -100, 99, 99, 99))
-
-
-def size_by_hand(total):
-    a, b, c, d, e, f = total
-    return 4 * a * b * c + d * e * f - a * d * d - b * e * e - c * f * f
-
-
-def is_one_signed(total):
-    """Whether the worth has one sign at all points, told by the sizes of the sum's upper parts."""
-    a, b, c, d, e, f = total
-    return 4 * a * b - f * f > 0 and a * size_by_hand(total) > 0
-
-
-def rests_from(prime):
-    """Points by the prime, of all that are multiples of one another one alone."""
-    yield from ((1, y, z) for y, z in itertools.product(range(prime), repeat=2))
-    yield from ((0, 1, z) for z in range(prime))
-    yield (0, 0, 1)
-
-
-def lead_on(total, prime, point, power, last):
-    """Whether rests that differ from the point's by multiples of the power fit by the last power."""
-    if worth_by_hand(total, point) % power != 0:
-        return False
-    if power == last:
-        return True
-    first = next(place for place in range(3) if point[place] % prime != 0)
-    choices = [(number,) if place == first else [number + power * step for step in range(prime)]
-               for place, number in enumerate(point)]
-    return any(lead_on(total, prime, nearer, power * prime, last) for nearer in itertools.product(*choices))
-
-
-def fits_by_all_rests(total, prime):
-    """A fit by this power leads on to fits by all others: the prime can't divide the slopes more often than twice the
-    size."""
-    often = primes_of(abs(2 * size_by_hand(total))).count(prime)
-    return any(lead_on(total, prime, point, prime, prime ** (2 * often + 1)) for point in rests_from(prime))
 
 
 class Curves(unittest.TestCase):
@@ -115,8 +79,8 @@ class Curves(unittest.TestCase):
 
     def test_all_products_of_two_small_lines(self):
         lines = list(itertools.product((-2, 0, 1, 3), repeat=3))
-        for (k, l, m), (n, o, p) in itertools.combinations_with_replacement(lines, 2):
-            self.check_flat((k * n, l * o, m * p, l * p + m * o, k * p + m * n, k * o + l * n))
+        for one, other in itertools.combinations_with_replacement(lines, 2):
+            self.check_flat(product_sum(one, other))
 
     def test_all_six(self):
         told = [self.check(total) for full in FULL for total in [*itertools.permutations(full)][::7]]

@@ -17,6 +17,10 @@ FUNCTIONS = {
     "curves": {"point_or_place": "Q", "bad_of": "Q"},
     "smalls": {"small_point": "a b c"},
     "pencils": {"point_by": "Q P m n", "numbers_of": "Q P other"},
+    "meets": {"line_met": "Q line"},
+    "alikes": {"standard_of": "Q P", "alike_by": "one other"},
+    "notes": {"show_sum": "Q", "read_sum": "text"},
+    "desk": {"Desk": ""},
 }
 
 
@@ -29,6 +33,11 @@ class Interface(unittest.TestCase):
                 self.assertEqual(" ".join(parameters), arguments, f"{module}.{name}")
                 for parameter in parameters.values():
                     self.assertIs(parameter.default, inspect.Parameter.empty, f"{module}.{name}")
+
+    def test_the_desk(self):
+        say = importlib.import_module("conicplaces.desk").Desk().say
+        self.assertEqual([*inspect.signature(say).parameters], ["row"])
+        self.assertEqual(say(row="curve a xx = 0"), "ok")
 
 
 if __name__ == "__main__":

@@ -4,28 +4,10 @@ import unittest
 
 from conicplaces.errors import Flat, NoPair, OffCurve
 from conicplaces.pencils import numbers_of, point_by
-from trial import is_lowest, is_vertex, lowest_by_hand, measure_by_hand, slopes_by_hand, worth_by_hand
+from trial import CIRCLE, CURVES, FAR, FLAT, LONG, MIXED, is_lowest, is_vertex, lowest_by_hand, measure_by_hand
+from trial import product_of, slopes_by_hand, stretched_by, through, worth_by_hand
 
-CIRCLE = (1, 1, -1, 0, 0, 0)
-MIXED = (0, 0, 0, 1, 1, 1)
-# Curves, each with points of its own.
-CURVES = {
-    CIRCLE: ((1, 0, 1), (1, 0, -1), (0, 1, 1), (3, 4, 5), (5, -12, 13), (0, 1, -1)),
-    MIXED: ((1, 0, 0), (0, 1, 0), (0, 0, 1), (2, 2, -1), (3, 6, -2)),
-    (1, 0, -1, 5, 0, 3): ((0, 1, 0), (1, 0, 1), (1, 0, -1), (3, -1, 0), (7, 6, -5)),
-    (-1, 1, 7, 0, 0, 0): ((1, 1, 0), (1, -1, 0), (4, 3, 1)),
-    (0, 2, -3, 1, 0, 5): ((1, 0, 0), (0, 1, 1), (0, 3, -2), (2, -5, 0)),
-    (0, -1, 0, 0, 1, 0): ((1, 0, 0), (0, 0, 1), (1, 1, 1), (4, -6, 9)),
-    (0, 0, 1, 0, 0, -1): ((1, 0, 0), (0, 1, 0), (1, 1, -1), (25, 4, 10)),
-    (2, 3, -5, 0, 0, 0): ((1, 1, 1), (1, -1, 1), (1, 1, -1)),
-    (3, -2, 1, -4, 5, -3): ((1, 1, 1), (2, 3, -4), (2, 3, 6)),
-    (1, 0, 2, -3, 4, 1): ((0, 1, 0), (0, 2, 3), (1, -1, 0), (5, 1, -6)),
-}
 PAIRS = [pair for pair in itertools.product((-3, -2, -1, 0, 1, 2, 5, 6), repeat=2) if pair != (0, 0)]
-FLAT = ((0, 0, 0, 0, 0, 0), (1, -1, 0, 0, 0, 0), (1, 1, 0, 0, 0, 0), (0, 0, 0, 0, 0, 1), (4, 9, 25, 30, 20, 12))
-# Of 60 figures, and points whose numbers are nearly so long.
-LONG = (10 ** 59 + 7, -(10 ** 60 - 11), 3 * 10 ** 59 + 1)
-FAR = ((10 ** 58 + 1, 7, -3 * 10 ** 58 + 1), (10 ** 58, 10 ** 58 + 1, 0), (10 ** 57 + 3, -10 ** 58, 10 ** 58 - 1))
 
 
 def direction_by_hand(point, m, n):
@@ -33,25 +15,6 @@ def direction_by_hand(point, m, n):
     if r != 0:
         return (m, n, 0)
     return (m, 0, n) if q != 0 else (0, m, n)
-
-
-def product_of(row, point):
-    return sum(number * part for number, part in zip(row, point))
-
-
-def stretched_by(point, times):
-    return tuple(times * number for number in point)
-
-
-def through(point, line, other):
-    """A sum that is 0 at the point: two lines through the point, each times another line."""
-    p, q, r = point
-    return tuple(one + two for one, two in zip(product_sum((q, -p, 0), line), product_sum((r, 0, -p), other)))
-
-
-def product_sum(one, other):
-    (k, l, m), (n, o, p) = one, other
-    return (k * n, l * o, m * p, l * p + m * o, k * p + m * n, k * o + l * n)
 
 
 class PointBy(unittest.TestCase):

@@ -62,8 +62,8 @@ class Plain(unittest.TestCase):
     def test_squares_and_parts_in_common(self):
         for three in itertools.product((1, -2, 4, 6, -9, 12, 30, -100), repeat=3):
             self.check((*three, 0, 0, 0))
-        for total in ((4, 8, 12, 16, 20, 24), (9, -18, 27, 36, 45, -54), (6, 10, 15, 0, 0, 0), (100, 100, 100, 100, 0, 0),
-                      (0, 0, 0, 60, 84, 90), (72, 50, 98, 0, 0, 60)):
+        for total in ((4, 8, 12, 16, 20, 24), (9, -18, 27, 36, 45, -54), (6, 10, 15, 0, 0, 0),
+                      (100, 100, 100, 100, 0, 0), (0, 0, 0, 60, 84, 90), (72, 50, 98, 0, 0, 60)):
             self.check(total)
 
     def test_all_small_ones(self):
